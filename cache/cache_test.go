@@ -185,7 +185,7 @@ func TestOfOneTime(t *testing.T) {
 	finds(t, c, 1, 1, 1<<40, "y")
 }
 
-// P11.1: where times go back, the first one is that of the earliest time of those that are there; the new one stays.
+// P11.1: where times go back, the first one is that of the earliest time, whenever its Keep came.
 func TestTimesThatGoBack(t *testing.T) {
 	c := cache.New()
 	for i, at := range []int64{50, 20, 80, 20, 70, 60, 90, 30} {
@@ -204,13 +204,44 @@ func TestTimesThatGoBack(t *testing.T) {
 		}
 		finds(t, c, 2, n, 100, "new")
 	}
-	c.Keep(3, 0, 5, []byte("early"))
-	finds(t, c, 3, 0, 5, "early")
-	finds(t, c, 2, 0, 100, "-")
-	counts(t, c, 100, 8)
-	c.Keep(3, 1, 200, []byte("late"))
-	finds(t, c, 3, 0, 5, "-")
-	finds(t, c, 2, 1, 200, "new")
+}
+
+// P11.1, P11.2: the new one is the one that goes if it was kept first, at a time ahead of all others; of their first one's time it stays, and that goes.
+func TestTheNewOneGoes(t *testing.T) {
+	full := func() *cache.Cache {
+		c := cache.New()
+		for i := range 8 {
+			c.Keep(1, i, int64(10+i), []byte("x"))
+		}
+		return c
+	}
+	for _, early := range []int64{9, 5, 0, -1, math.MinInt64} {
+		c := full()
+		c.Keep(2, 0, early, []byte("early"))
+		finds(t, c, 2, 0, early, "-")
+		for i := range 8 {
+			finds(t, c, 1, i, 17, "x")
+		}
+		counts(t, c, 17, 8)
+	}
+	for _, late := range []int64{10, 11, 17, 18, math.MaxInt64} {
+		c := full()
+		c.Keep(2, 0, late, []byte("late"))
+		finds(t, c, 2, 0, late, "late")
+		finds(t, c, 1, 0, 17, "-")
+		for i := 1; i < 8; i++ {
+			finds(t, c, 1, i, 17, "x")
+		}
+	}
+	// In the place of its own it makes no more than there were; then it is the first one.
+	c := full()
+	c.Keep(1, 5, 0, []byte("anew"))
+	counts(t, c, 17, 8)
+	finds(t, c, 1, 5, 0, "anew")
+	c.Keep(2, 0, 1, []byte("y"))
+	finds(t, c, 1, 5, 0, "-")
+	finds(t, c, 2, 0, 1, "y")
+	finds(t, c, 1, 0, 17, "x")
 }
 
 // P11.1: those whose life is over are there no less: they are told at an earlier time, and go like others.
@@ -296,8 +327,9 @@ func TestTheLastEightAreFound(t *testing.T) {
 
 // model is answers that are kept, written otherwise: by messages, each with its time and how many Keeps came ahead.
 type model struct {
-	kept  map[[2]int]entry
-	keeps int
+	kept    map[[2]int]entry
+	keeps   int
+	refused int // how often the one that was handed in went
 }
 
 type entry struct {
@@ -318,18 +350,21 @@ func inRange(now int64) int {
 func (e entry) lives(now int64) bool { return inRange(now) <= e.at+246 }
 
 func (m *model) keep(from, id int, now int64, reply string) {
-	delete(m.kept, [2]int{from, id})
-	if len(m.kept) == 8 {
-		first, at, nth := [2]int{}, math.MaxInt, 0
-		for k, e := range m.kept {
-			if e.at < at || e.at == at && e.nth < nth {
-				first, at, nth = k, e.at, e.nth
-			}
-		}
-		delete(m.kept, first)
-	}
 	m.keeps++
 	m.kept[[2]int{from, id}] = entry{inRange(now), m.keeps, reply}
+	if len(m.kept) <= 8 {
+		return
+	}
+	first, at, nth := [2]int{}, math.MaxInt, 0
+	for k, e := range m.kept {
+		if e.at < at || e.at == at && e.nth < nth {
+			first, at, nth = k, e.at, e.nth
+		}
+	}
+	if first == [2]int{from, id} {
+		m.refused++
+	}
+	delete(m.kept, first)
 }
 
 func (m *model) find(from, id int, now int64) string {
@@ -365,7 +400,7 @@ func someTime(r *rand.Rand, now int64) int64 {
 // P11.1, P2: whatever calls come, in whatever order.
 func TestAgainstAModel(t *testing.T) {
 	r := rand.New(rand.NewSource(14))
-	found, lost := 0, 0
+	found, lost, refused := 0, 0, 0
 	for n := range 1000 {
 		c, m := cache.New(), &model{kept: map[[2]int]entry{}}
 		now := int64(r.Intn(1000))
@@ -397,12 +432,13 @@ func TestAgainstAModel(t *testing.T) {
 				}
 			}
 		}
+		refused += m.refused
 		if t.Failed() {
 			t.FailNow()
 		}
 	}
-	if found < 5000 || lost < 5000 {
-		t.Errorf("%d found, %d not", found, lost)
+	if found < 5000 || lost < 5000 || refused < 1000 {
+		t.Errorf("%d found, %d not, %d not kept", found, lost, refused)
 	}
 }
 
